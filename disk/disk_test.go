@@ -431,7 +431,7 @@ func TestCrashCutsBytes(t *testing.T) {
 	}
 }
 
-// P9.3: every row of up to 4 writes of few texts to two files, the first ones synced: a crash with every number of units.
+// P9.3: every row of up to 3 writes of few texts to two files, also behind a Replace, the first ones synced: a crash with every number of units.
 func TestEveryRow(t *testing.T) {
 	var writes []step
 	for f := range 2 {
